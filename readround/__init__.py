@@ -1,0 +1,1 @@
+"""Readround: readings that go round through the years."""

@@ -1,0 +1,166 @@
+"""The package keeps to the language rules, as far as its source plainly shows it."""
+
+import ast
+import builtins
+import pathlib
+import re
+import unittest
+
+PACKAGE = pathlib.Path(__file__).resolve().parent.parent / "readround"
+BUILTINS = set("""len range enumerate zip min max sum abs sorted reversed int str bool bytes list tuple dict set
+    frozenset isinstance ord repr any all divmod Exception ValueError TypeError KeyError IndexError LookupError
+    ZeroDivisionError ArithmeticError OverflowError RuntimeError NotImplementedError AttributeError StopIteration
+    NotImplemented""".split())
+DOUBLE_UNDERSCORE = set("__init__ __eq__ __repr__ __str__ __len__ __enter__ __exit__ __call__ __iter__".split())
+BARRED_WORDS = """type typing typing_extensions enum Enum IntEnum StrEnum Flag IntFlag Generic Protocol ABC ABCMeta
+    namedtuple NamedTuple TypedDict TYPE_CHECKING abstractmethod""".split()
+BARRED_NAMES = set("""register mro elements open input version_info with_traceback add_note attrgetter breakpoint
+    compile copyright credits delattr dir eval exec exit gc getattr globals hasattr help id importlib license locals
+    methodcaller os quit setattr vars sys format format_map""".split())
+BARRED_NODES = (ast.Global, ast.AsyncFunctionDef, ast.AsyncFor, ast.AsyncWith, ast.Await, ast.Import, ast.Div)
+TAKE_A_LIST = ("any", "all", "min", "max", "sum", "sorted")
+
+
+def sources():
+    return sorted(PACKAGE.rglob("*.py"))
+
+
+def tree_of(path):
+    return ast.parse(path.read_text(encoding="utf-8"))
+
+
+def nodes(*kinds):
+    """Each node of one of the kinds in the package, with the place where it stands."""
+    for path in sources():
+        for node in ast.walk(tree_of(path)):
+            if isinstance(node, kinds):
+                yield f"{path.name}:{getattr(node, 'lineno', 0)}", node
+
+
+def bound_names(node):
+    """The names that a node binds."""
+    if isinstance(node, ast.Name) and not isinstance(node.ctx, ast.Load):
+        return [node.id]
+    if isinstance(node, (ast.FunctionDef, ast.ClassDef)):
+        return [node.name]
+    if isinstance(node, ast.arg):
+        return [node.arg]
+    if isinstance(node, ast.alias):
+        return [node.asname or node.name]
+    return []
+
+
+def methods_and_attributes():
+    methods, attributes = set(), set()
+    for place, node in nodes(ast.ClassDef):
+        methods.update(part.name for part in node.body if isinstance(part, ast.FunctionDef))
+    for place, node in nodes(ast.Attribute):
+        if isinstance(node.ctx, ast.Store):
+            attributes.add(node.attr)
+    return methods, attributes
+
+
+class Files(unittest.TestCase):
+    def test_the_package_is_there(self):
+        self.assertIn("__init__.py", [path.name for path in sources()])
+
+    def test_the_folder_holds_nothing_but_plain_source(self):
+        for path in PACKAGE.rglob("*"):
+            if "__pycache__" not in path.parts:
+                self.assertRegex(path.name, r"^([a-z0-9_]+\.py|[a-z0-9_]+)$")
+                self.assertFalse(path.name.startswith("test"), path.name)
+
+    def test_signs_and_sizes(self):
+        for path in sources():
+            text = path.read_text(encoding="utf-8")
+            with self.subTest(path.name):
+                self.assertRegex(text, r"\A[ -~\n]*\Z")
+                self.assertLessEqual(len(text.splitlines()), 400)
+                self.assertLessEqual(max(len(line) for line in text.splitlines()), 120)
+
+    def test_functions_are_short(self):
+        for place, node in nodes(ast.FunctionDef):
+            self.assertLessEqual(node.end_lineno - node.lineno + 1, 40, place)
+
+    def test_barred_words(self):
+        for path in sources():
+            found = set(re.findall(r"\w+", path.read_text(encoding="utf-8")))
+            self.assertEqual(sorted(found.intersection(BARRED_WORDS)), [], path.name)
+
+
+class Imports(unittest.TestCase):
+    def test_only_from_the_very_file_of_the_package(self):
+        for place, node in nodes(ast.ImportFrom):
+            self.assertEqual(node.level, 0, place)
+            self.assertRegex(node.module, r"^readround\.[a-z0-9_]+$", place)
+            other = tree_of(PACKAGE / (node.module.split(".")[1] + ".py"))
+            made = [name for part in other.body if not isinstance(part, ast.ImportFrom)
+                    for inner in (part.targets if isinstance(part, ast.Assign) else [part])
+                    for name in bound_names(inner)]
+            for alias in node.names:
+                self.assertIn(alias.name, made, place)
+
+    def test_files_do_not_import_each_other_in_a_ring(self):
+        left = {path.stem: {node.module.split(".")[1] for node in ast.walk(tree_of(path))
+                            if isinstance(node, ast.ImportFrom)} for path in sources()}
+        while left:
+            free = [name for name, needs in left.items() if not needs.intersection(left)]
+            self.assertNotEqual(free, [], f"a ring among {sorted(left)}")
+            for name in free:
+                del left[name]
+
+
+class Code(unittest.TestCase):
+    def test_module_level(self):
+        for path in sources():
+            body = tree_of(path).body
+            self.assertIsNotNone(ast.get_docstring(tree_of(path)), path.name)
+            for node in body[1:]:
+                self.assertIsInstance(node, (ast.ImportFrom, ast.FunctionDef, ast.ClassDef, ast.Assign), path.name)
+            names = [name for node in body[1:]
+                     for part in (node.targets if isinstance(node, ast.Assign) else getattr(node, "names", [node]))
+                     for name in bound_names(part)]
+            self.assertEqual(sorted(names), sorted(set(names)), path.name)
+
+    def test_barred_statements_and_signs(self):
+        for place, node in nodes(*BARRED_NODES):
+            self.fail(f"{place}: {type(node).__name__}")
+        for place, node in nodes(ast.Constant):
+            self.assertNotIsInstance(node.value, (float, complex), place)
+            self.assertNotIn("%", str(node.value), place)
+
+    def test_names(self):
+        for place, node in nodes(ast.Name, ast.FunctionDef, ast.ClassDef, ast.arg, ast.alias, ast.Attribute):
+            for name in bound_names(node) + ([node.attr] if isinstance(node, ast.Attribute) else []):
+                self.assertNotIn(name, BARRED_NAMES, place)
+                if name not in DOUBLE_UNDERSCORE:
+                    self.assertRegex(name, r"^[A-Za-z][A-Za-z0-9_]*$", place)
+
+    def test_builtins(self):
+        known = set(dir(builtins))
+        methods, attributes = methods_and_attributes()
+        for place, node in nodes(ast.Name, ast.FunctionDef, ast.ClassDef, ast.arg, ast.alias):
+            if isinstance(node, ast.Name) and isinstance(node.ctx, ast.Load):
+                self.assertTrue(node.id not in known or node.id in BUILTINS, f"{place}: {node.id}")
+            for name in bound_names(node):
+                self.assertTrue(name not in known or name in methods, f"{place}: {name}")
+
+    def test_lists_are_taken_whole(self):
+        for place, node in nodes(ast.Call):
+            if isinstance(node.func, ast.Name) and node.func.id in TAKE_A_LIST:
+                for told in node.args:
+                    self.assertNotIsInstance(told, ast.GeneratorExp, place)
+
+    def test_no_name_is_a_method_here_and_an_attribute_there(self):
+        methods, attributes = methods_and_attributes()
+        self.assertEqual(methods & attributes, set())
+
+    def test_is_asks_for_none_true_and_false_only(self):
+        for place, node in nodes(ast.Compare):
+            for sign, right in zip(node.ops, node.comparators):
+                if isinstance(sign, (ast.Is, ast.IsNot)):
+                    self.assertTrue(isinstance(right, ast.Constant) and right.value in (None, True, False), place)
+
+
+if __name__ == "__main__":
+    unittest.main()
