@@ -45,3 +45,8 @@ def is_pair(value):
 def is_number_pair(value):
     """Tell whether value is a tuple of two numbers."""
     return is_pair(value) and is_number(value[0]) and is_number(value[1])
+
+
+def are_unlike(names):
+    """Tell whether no name stands twice among the names."""
+    return len(set(names)) == len(names)

@@ -50,6 +50,10 @@ class Names(unittest.TestCase):
             with self.subTest(value):
                 self.assertIs(kinds.is_name(value), False)
 
+    def test_unlike_names(self):
+        told = [kinds.are_unlike(names) for names in ([], ["a"], ["a", "b"], ["a", "a"], ["a", "b", "a"])]
+        self.assertEqual(told, [True, True, True, False, False])
+
 
 class ListsAndPairs(unittest.TestCase):
     def test_lists_by_length(self):
