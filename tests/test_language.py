@@ -18,6 +18,11 @@ BARRED_NAMES = set("""register mro elements open input version_info with_traceba
     compile copyright credits delattr dir eval exec exit gc getattr globals hasattr help id importlib license locals
     methodcaller os quit setattr vars sys format format_map""".split())
 BARRED_NODES = (ast.Global, ast.AsyncFunctionDef, ast.AsyncFor, ast.AsyncWith, ast.Await, ast.Import, ast.Div)
+BUILTIN_KINDS = (str, int, bytes, list, dict, set, tuple)
+MAY_BE_METHODS = set("""add discard append clear copy count endswith extend find get index insert isalnum isalpha
+    isdigit islower isspace isupper items join keys ljust lower lstrip partition pop remove replace reverse rfind rjust
+    rpartition rsplit rstrip setdefault split splitlines startswith strip update upper values zfill bit_length""".split())
+MAY_BE_ATTRIBUTES = set("count index title find get join lower upper split strip copy add".split())
 TAKE_A_LIST = ("any", "all", "min", "max", "sum", "sorted")
 
 
@@ -154,6 +159,23 @@ class Code(unittest.TestCase):
     def test_no_name_is_a_method_here_and_an_attribute_there(self):
         methods, attributes = methods_and_attributes()
         self.assertEqual(methods & attributes, set())
+
+    def test_methods_and_attributes_are_called_otherwise_than_those_of_builtin_values(self):
+        methods, attributes = methods_and_attributes()
+        builtin = {name for kind in BUILTIN_KINDS for name in dir(kind)}
+        self.assertEqual((methods & builtin) - MAY_BE_METHODS - DOUBLE_UNDERSCORE, set())
+        self.assertEqual((attributes & builtin) - MAY_BE_ATTRIBUTES, set())
+
+    def test_no_local_name_is_that_of_a_class_or_an_import_of_its_file(self):
+        for path in sources():
+            body = tree_of(path).body
+            taken = {name for node in body if isinstance(node, ast.ClassDef) for name in bound_names(node)}
+            taken |= {name for node in body if isinstance(node, ast.ImportFrom)
+                      for alias in node.names for name in bound_names(alias)}
+            for function in [node for node in ast.walk(tree_of(path)) if isinstance(node, ast.FunctionDef)]:
+                for node in ast.walk(function):
+                    if isinstance(node, (ast.Name, ast.arg)):
+                        self.assertEqual(taken.intersection(bound_names(node)), set(), f"{path.name}:{node.lineno}")
 
     def test_is_asks_for_none_true_and_false_only(self):
         for place, node in nodes(ast.Compare):
