@@ -28,7 +28,18 @@ def one_step(row, pair, sort):
 
 
 class Row:
-    """A row of pieces, going or yearly."""
+    """A row of pieces, going or yearly; nothing is made of this class itself."""
+
+    def __eq__(self, other):
+        return isinstance(other, Row) and self.told() == other.told()
+
+    def told(self):
+        """Tell what the row was made of."""
+        raise NotImplementedError("a row is going or yearly")
+
+    def step(self, pair, sort):
+        """Tell the state that a day leaves, and the list of numbers read."""
+        raise NotImplementedError("a row is going or yearly")
 
 
 class Going(Row):
