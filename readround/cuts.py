@@ -17,6 +17,11 @@ def is_cut(book, pieces):
     return reached == book.many()
 
 
+def longest_block(book):
+    """Tell how long the longest block is."""
+    return max([book.long(first, end) for first, end in book.blocks()])
+
+
 def refuse_long_blocks(book, limit):
     """Raise TooTight for the first block that is longer than the limit."""
     for first, end in book.blocks():
@@ -49,7 +54,7 @@ def least_limit(book, many):
         raise BadNumber("a book is cut into at least one piece")
     # No limit below the longest block gives a cut, and the whole book gives one
     # piece; a greater limit never needs more pieces, so the span can be halved.
-    low = max([book.long(first, end) for first, end in book.blocks()])
+    low = longest_block(book)
     high = book.long(0, book.many())
     while low < high:
         middle = (low + high) // 2

@@ -14,21 +14,36 @@ def told_reading(wheel, day, number):
     return lap, piece, own, feast
 
 
+def numbers_on(wheel, day):
+    """List the numbers that are read on a day."""
+    sort, feast = wheel.mark(day)
+    behind, numbers = wheel.series.step(wheel.state_at(day), sort)
+    return numbers
+
+
+def wheel_reads(wheel, day):
+    """List what of the wheel's row is read on a day, in order, each as (round, piece, own, feast)."""
+    return [told_reading(wheel, day, number) for number in numbers_on(wheel, day)]
+
+
 def reads(house, name, day):
     """List what of a row is read on a day, in order, each as (round, piece, own, feast)."""
     wheel = house.wheel(name)
     check_day(day)
-    sort, feast = wheel.mark(day)
-    behind, numbers = wheel.series.step(wheel.state_at(day), sort)
-    return [told_reading(wheel, day, number) for number in numbers]
+    return wheel_reads(wheel, day)
 
 
-def check_piece(wheel, lap, piece):
+def check_piece(wheel, piece):
+    """Refuse a piece that the row hasn't."""
+    if not is_number_within(piece, 0, wheel.series.pieces - 1):
+        raise NoPiece("the row has no such piece")
+
+
+def check_lap_piece(wheel, lap, piece):
     """Refuse a piece of a round that the row never has."""
     if not is_number_from(lap, 0):
         raise NoPiece("rounds are counted from 0")
-    if not is_number_within(piece, 0, wheel.series.pieces - 1):
-        raise NoPiece("the row has no such piece")
+    check_piece(wheel, piece)
     if wheel.number_of(lap, piece) < 0:
         raise NoPiece("the row begins behind that piece")
 
@@ -36,14 +51,14 @@ def check_piece(wheel, lap, piece):
 def own_day(house, name, lap, piece):
     """Tell the day on which a piece of a round comes due, None where that never comes."""
     wheel = house.wheel(name)
-    check_piece(wheel, lap, piece)
+    check_lap_piece(wheel, lap, piece)
     return wheel.due_on(lap, wheel.number_of(lap, piece))
 
 
 def read_day(house, name, lap, piece):
     """Tell the day on which a piece of a round is read, None where that never comes."""
     wheel = house.wheel(name)
-    check_piece(wheel, lap, piece)
+    check_lap_piece(wheel, lap, piece)
     return wheel.read_on(lap, wheel.number_of(lap, piece))
 
 

@@ -18,6 +18,32 @@ def ahead_of_end(day, end):
     return None
 
 
+def days_to_clear(row, pair, sort, days):
+    """Tell behind how many of so many days of one sort nothing is owed at first, None where behind none of them."""
+    if row.leap(pair, sort, 1)[1] == 0:
+        return 1
+    # only free days make what is owed less, and none of them makes it more
+    if sort != "free" or row.leap(pair, sort, days)[1] > 0:
+        return None
+    owing = 1
+    clear = days
+    while owing + 1 < clear:
+        middle = (owing + clear) // 2
+        if row.leap(pair, sort, middle)[1] > 0:
+            owing = middle
+        else:
+            clear = middle
+    return clear
+
+
+def days_to_peak(row, pair, sort, days):
+    """Tell behind how many of so many days of one sort the most is owed at first."""
+    if sort != "off":
+        return 1
+    # days off make it more for as long as pieces come due
+    return max(1, row.leap(pair, sort, days)[0] - pair[0])
+
+
 class Wheel:
     """The days of one row, by stretches; places are days of one turn, counted from its beginning."""
 
@@ -36,16 +62,46 @@ class Wheel:
         first, days, sort, feast = self.stretches[last_at_most(self.begins, day % self.size)]
         return sort, feast
 
-    def walk(self, pair, first, end):
-        """Carry a state from the place first to the place end of the same turn, stretch by stretch."""
+    def parts(self, first, end):
+        """List the parts (first, days, sort) of the stretches from the place first to the place end of one turn."""
+        found = []
         at = last_at_most(self.begins, first)
         while first < end:
             begin, days, sort, feast = self.stretches[at]
             stop = min(begin + days, end)
-            pair = self.series.leap(pair, sort, stop - first)
+            found.append((first, stop - first, sort))
             first = stop
             at += 1
+        return found
+
+    def walk(self, pair, first, end):
+        """Carry a state from the place first to the place end of the same turn, stretch by stretch."""
+        for begin, days, sort in self.parts(first, end):
+            pair = self.series.leap(pair, sort, days)
         return pair
+
+    def clear_place(self, pair, first, end):
+        """Tell the first place, from first to end - 1 of one turn, behind whose step nothing is owed, or None."""
+        for begin, days, sort in self.parts(first, end):
+            count = days_to_clear(self.series, pair, sort, days)
+            if count is not None:
+                return begin + count - 1
+            pair = self.series.leap(pair, sort, days)
+        return None
+
+    def peaks(self, pair, first, end):
+        """List for each part from the place first to the place end (owed, place): the most owed, and where at first."""
+        found = []
+        for begin, days, sort in self.parts(first, end):
+            count = days_to_peak(self.series, pair, sort, days)
+            found.append((self.series.leap(pair, sort, count)[1], begin + count - 1))
+            pair = self.series.leap(pair, sort, days)
+        return found
+
+    def done_ahead(self, day):
+        """Tell how many numbers of the course of day are read ahead of it."""
+        due, owed = self.state_at(day)
+        return due - owed
 
     def due_on(self, lap, number):
         """Tell the day on which a number of the course of lap comes due, None where that never comes."""
@@ -110,6 +166,58 @@ class GoingWheel(Wheel):
         due, owed = pair
         return due + turns * self.waking.total, max(owed - turns * self.spare, self.left)
 
+    def turns_to_clear(self, owed):
+        """Tell how many whole turns go by ahead of the first one with a clear day, None where none has one."""
+        # A turn takes away spare, unless it comes to nothing on its way: then it ends
+        # with left. So it comes to nothing just where no more than left + spare is owed.
+        over = owed - self.spare - self.left
+        if over <= 0:
+            return 0
+        if self.spare == 0:
+            return None
+        return (over + self.spare - 1) // self.spare
+
+    def clear_on(self, pair, day, end):
+        """Tell the first day, from day on and ahead of end, behind whose step nothing is owed, or None."""
+        turns, place = divmod(day, self.size)
+        found = self.clear_place(pair, place, self.size)
+        if found is None:
+            pair = self.walk(pair, place, self.size)
+            passed = self.turns_to_clear(pair[1])
+            if passed is None:
+                return None
+            turns += 1 + passed
+            found = self.clear_place(self.pass_turns(pair, passed), 0, self.size)
+        return ahead_of_end(turns * self.size + found, end)
+
+    def all_peaks(self):
+        """List (owed, day) of days among which the most is owed; behind the second turn all come again."""
+        second = self.peaks((self.left, self.left), 0, self.size)
+        return self.peaks((0, 0), 0, self.size) + [(owed, self.size + place) for owed, place in second]
+
+    def next_reading(self, piece, day):
+        """Tell (day, round) of the first reading of a piece from day on, None where none comes."""
+        done = self.done_ahead(day)
+        number = done + (piece - self.series.begin - done) % self.series.pieces
+        found = self.read_on(0, number)
+        if found is None:
+            return None
+        lap, same_piece = self.lap_and_piece(found, number)
+        return found, lap
+
+    def times_ahead(self, piece, day):
+        """Tell how often a piece is read ahead of day."""
+        ahead_of_begin = (self.series.begin - piece - 1) // self.series.pieces
+        return (self.series.begin + self.done_ahead(day) - piece - 1) // self.series.pieces - ahead_of_begin
+
+    def readings_in(self, year):
+        """Tell how many readings lie on the days of a year."""
+        return self.done_ahead(self.dates.first(year + 1)) - self.done_ahead(self.dates.first(year))
+
+    def course_of(self, day):
+        """Tell the course of a day as course tells that of a round."""
+        return 0, None
+
     def course(self, lap):
         """Tell the first day of the days in which numbers are counted on, and None: they have no end."""
         return 0, None
@@ -139,6 +247,62 @@ class YearlyWheel(Wheel):
             return self.state_at(end)
         first = day % self.size
         return self.walk(pair, first, first + end - day)
+
+    def year_places(self, year):
+        """Tell the place of a year's first day in its turn, and the place behind its last."""
+        first = self.dates.first(year) % self.size
+        return first, first + self.dates.long(year)
+
+    def clear_on(self, pair, day, end):
+        """Tell the first day, from day on and ahead of end, behind whose step nothing is owed, or None."""
+        year, place = self.dates.at(day)
+        first, behind = self.year_places(year)
+        found = self.clear_place(pair, first + place, behind)
+        if found is not None:
+            return ahead_of_end(day + found - first - place, end)
+        # each year is begun with nothing, so that one turn of the years shows all there is
+        for later in range(year + 1, year + 1 + len(self.dates.years())):
+            first, behind = self.year_places(later)
+            found = self.clear_place((0, 0), first, behind)
+            if found is not None:
+                return ahead_of_end(self.dates.first(later) + found - first, end)
+        return None
+
+    def all_peaks(self):
+        """List (owed, day) of days among which the most is owed; behind the first turn all come again."""
+        found = []
+        for year in range(len(self.dates.years())):
+            first, behind = self.year_places(year)
+            found += self.peaks((0, 0), first, behind)
+        return found
+
+    def next_reading(self, piece, day):
+        """Tell (day, round) of the first reading of a piece from day on, None where none comes."""
+        year, place = self.dates.at(day)
+        for lap in range(year, year + 1 + len(self.dates.years())):
+            found = self.read_on(lap, piece)
+            if found is not None and found >= day:
+                return found, lap
+        return None
+
+    def times_ahead(self, piece, day):
+        """Tell how often a piece is read ahead of day."""
+        year, place = self.dates.at(day)
+        turns, left = divmod(year, len(self.dates.years()))
+        read = [0 if self.read_on(lap, piece) is None else 1 for lap in range(len(self.dates.years()))]
+        this_year = 1 if piece < self.done_ahead(day) else 0
+        return turns * sum(read) + sum(read[:left]) + this_year
+
+    def readings_in(self, year):
+        """Tell how many readings lie on the days of a year."""
+        first, behind = self.year_places(year)
+        due, owed = self.walk((0, 0), first, behind)
+        return due - owed
+
+    def course_of(self, day):
+        """Tell the course of a day as course tells that of a round."""
+        year, place = self.dates.at(day)
+        return self.course(year)
 
     def course(self, lap):
         """Tell the first day of the year lap and the day behind its last."""

@@ -73,6 +73,28 @@ def great_house():
     return House(Calendar([400] * 20), feasts, rows)
 
 
+WORDS = ("off", "rest", "free", "going", "yearly", "feast", "all", "calendar", "put", "drop", "go", "log", "never", "done")
+
+
+def renamed(house, row_names, feast_names):
+    """The same house with other names."""
+    names = {row.told()[1]: new for row, new in zip(house.rows(), row_names)}
+    rows = [Going(names[told[1]], *told[2:]) if told[0] == "going" else Yearly(names[told[1]], *told[2:])
+            for told in [row.told() for row in house.rows()]]
+    feasts = []
+    for new, feast in zip(feast_names, house.feasts()):
+        name, place, days, years, puts = feast.told()
+        feasts.append(Feast(new, place, days, years, [(names[row], sort) for row, sort in puts]))
+    return House(house.calendar(), feasts, rows)
+
+
+def word_houses(house):
+    """The house with words of the program in the place of its names, all of them by turns."""
+    for first in range(len(WORDS)):
+        words = WORDS[first:] + WORDS[:first]
+        yield renamed(house, words[:4], words[-8:])
+
+
 class Walked:
     """A house walked day by day for some turns, by the words of the document alone."""
 
