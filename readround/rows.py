@@ -5,6 +5,7 @@ from readround.kinds import is_name, is_number_pair, is_number_within
 
 MOST_PIECES = 10 ** 6
 MOST_READ = 9
+SORTS = ("free", "off", "rest")
 
 
 def check_row(name, many, most):

@@ -96,9 +96,9 @@ def word_houses(house):
 
 
 class Walked:
-    """A house walked day by day for some turns, by the words of the document alone."""
+    """A house walked day by day for some turns, by the words of the document alone, also with single days."""
 
-    def __init__(self, house, turns):
+    def __init__(self, house, turns, singles=()):
         self.house = house
         self.years = house.calendar().years()
         self.turn = sum(self.years)
@@ -109,6 +109,9 @@ class Walked:
         for row in house.rows():
             told = row.told()
             marks = [plain.sort_on(self.feasts, self.years, told[1], year, place) for year, place in self.dates]
+            for day, name, sort in singles:
+                if name == told[1] and day < self.days:
+                    marks[day] = (sort, "")
             self.marks[told[1]] = marks
             self.steps[told[1]] = plain.walk(told, [sort for sort, feast in marks], self.dates)
 
