@@ -138,7 +138,7 @@ class Desk:
     """A diary of the house that the texts tell of."""
 
     def __init__(self, rows):
-        self.book = Diary(read_house(rows))
+        self.diary = Diary(read_house(rows))
 
     def tell(self, row):
         """Do or answer what the text tells, as a list of texts."""
@@ -147,6 +147,6 @@ class Desk:
             return ["what"]
         answer = ANSWERS[words[0]]
         try:
-            return answer(self.book, told_of(words))
+            return answer(self.diary, told_of(words))
         except ReadError:
             return ["no"]

@@ -23,6 +23,10 @@ MAY_BE_METHODS = set("""add discard append clear copy count endswith extend find
     isdigit islower isspace isupper items join keys ljust lower lstrip partition pop remove replace reverse rfind rjust
     rpartition rsplit rstrip setdefault split splitlines startswith strip update upper values zfill bit_length""".split())
 MAY_BE_ATTRIBUTES = set("count index title find get join lower upper split strip copy add".split())
+METHODS_OF_BUILTINS = MAY_BE_METHODS | set("""title capitalize swapcase casefold center expandtabs removeprefix
+    removesuffix rindex isascii isdecimal isnumeric istitle isidentifier isprintable sort""".split())
+ITERATED_AT_ONCE = ("zip", "enumerate", "reversed", "range")
+ITERATING = set("list tuple dict sorted sum any all enumerate zip bytes min max".split())
 TAKE_A_LIST = ("any", "all", "min", "max", "sum", "sorted")
 
 
@@ -182,6 +186,69 @@ class Code(unittest.TestCase):
             for sign, right in zip(node.ops, node.comparators):
                 if isinstance(sign, (ast.Is, ast.IsNot)):
                     self.assertTrue(isinstance(right, ast.Constant) and right.value in (None, True, False), place)
+
+
+class Calls(unittest.TestCase):
+    def test_errors_are_made_where_they_are_raised(self):
+        for place, node in nodes(ast.Raise):
+            if node.exc is not None:
+                self.assertIsInstance(node.exc, ast.Call, place)
+                self.assertIsInstance(node.exc.func, ast.Name, place)
+
+    def test_own_errors_are_caught_by_name(self):
+        own = {part.name for part in tree_of(PACKAGE / "errors.py").body if isinstance(part, ast.ClassDef)}
+        for place, node in nodes(ast.ExceptHandler):
+            self.assertIsInstance(node.type, ast.Name, place)
+            self.assertIn(node.type.id, own, place)
+
+    def test_methods_are_own_ones_or_those_of_the_list(self):
+        methods, attributes = methods_and_attributes()
+        for place, node in nodes(ast.Call):
+            if isinstance(node.func, ast.Attribute):
+                self.assertIn(node.func.attr, methods | METHODS_OF_BUILTINS, place)
+
+    def test_attributes_that_are_read_are_assigned_by_some_class(self):
+        methods, attributes = methods_and_attributes()
+        for path in sources():
+            tree = tree_of(path)
+            called = {id(node.func) for node in ast.walk(tree) if isinstance(node, ast.Call)}
+            for node in ast.walk(tree):
+                if isinstance(node, ast.Attribute) and id(node) not in called:
+                    self.assertIn(node.attr, attributes, f"{path.name}:{node.lineno}")
+
+    def test_what_is_iterated_at_once_is_not_kept(self):
+        for path in sources():
+            tree = tree_of(path)
+            fine = set()
+            for node in ast.walk(tree):
+                if isinstance(node, (ast.For, ast.comprehension)):
+                    fine.add(id(node.iter))
+                if isinstance(node, ast.Call) and isinstance(node.func, ast.Name) and node.func.id in ITERATING:
+                    fine.update(id(told) for told in node.args)
+            for node in ast.walk(tree):
+                if isinstance(node, ast.Call) and isinstance(node.func, ast.Name) and node.func.id in ITERATED_AT_ONCE:
+                    self.assertIn(id(node), fine, f"{path.name}:{node.lineno}")
+
+    def test_stars_and_keywords_are_not_used(self):
+        # but for the key of min, max and sorted
+        for place, node in nodes(ast.Call):
+            for told in node.args:
+                self.assertNotIsInstance(told, ast.Starred, place)
+            for told in node.keywords:
+                self.assertEqual(told.arg, "key", place)
+                self.assertIn(node.func.id, ("min", "max", "sorted"), place)
+
+    def test_sets_stand_where_they_are_used(self):
+        for path in sources():
+            tree = tree_of(path)
+            fine = set()
+            for node in ast.walk(tree):
+                if isinstance(node, ast.Call) and isinstance(node.func, ast.Name) and node.func.id in ("sorted", "len"):
+                    fine.update(id(told) for told in node.args)
+            for node in ast.walk(tree):
+                is_set = isinstance(node, ast.Call) and isinstance(node.func, ast.Name) and node.func.id in ("set", "frozenset")
+                if is_set or isinstance(node, (ast.Set, ast.SetComp)):
+                    self.assertIn(id(node), fine, f"{path.name}:{node.lineno}")
 
 
 if __name__ == "__main__":

@@ -125,6 +125,16 @@ class ByHand(unittest.TestCase):
         self.assertEqual(diary.reads("lesson", 8), [(1, 0, 5, "")])
         self.assertEqual([diary.back("lesson", day) for day in (3, 4, 5, 9)], [3, 9, 9, 9])
 
+    def test_a_year_is_begun_with_nothing_behind_a_single_day_at_the_end_of_another(self):
+        # the one piece comes due on each year's first day and is never read
+        house = House(Calendar([3]), [Feast("lent", 0, 3, None, [("lesson", "off")])], [Yearly("lesson", 1, 1)])
+        for sort in ("off", "rest"):
+            diary = diary_with(house, [(2, "lesson", sort), (3 * FAR + 2, "lesson", sort)])
+            for day in (0, 2, 3, 5, 3 * FAR + 2, 3 * FAR + 3):
+                self.assertIsNone(diary.back("lesson", day))
+        diary = diary_with(house, [(2, "lesson", "free"), (5, "lesson", "off"), (9, "lesson", "rest")])
+        self.assertEqual([diary.back("lesson", day) for day in (0, 2, 3, 5, 9, 10)], [2, 2, 9, 9, 9, None])
+
     def test_a_row_that_never_wakes(self):
         diary = diary_with(ASLEEP, [(3, "psalm", "off"), (FAR, "psalm", "off"), (FAR + 9, "psalm", "free"), (6, "lesson", "free")])
         self.assertEqual([diary.state("psalm", day) for day in (3, 4, FAR, FAR + 1, FAR + 9, FAR + 10, 9 * FAR)],

@@ -168,7 +168,8 @@ class BadTexts(Refusing):
         self.wrong_everywhere(["feast a 0 1 all " + puts for puts in (
             "off", "rest", "off psalm rest", "psalm off", "free psalm", "Off psalm", "of psalm", "offs psalm", "off,psalm",
             "off psalm free lesson", "off psalm psalm off", "off Psalm", "off psalms1", "off abcdefghi", "off 5", "psalm", "5 psalm",
-            "off psalm, rest lesson", "off psalm-", "off psalm lesson")])
+            "off psalm, rest lesson", "off psalm-", "off psalm lesson", "off psalm rest abcdefghi", "off psalm off Lesson",
+            "off psalm rest lesson off hymn5")])
 
     def test_names(self):
         for name in ("abcdefghi", "A", "aB", "a1", "a_", "a-b", "1", "-", "~", "a.", "a,b", "off,"):
